@@ -1,0 +1,1 @@
+"""Calmwires: wires and gates without a beat."""
