@@ -20,7 +20,11 @@ def names(graph):
 
 
 def made(graph):
-    return [number for number, wire in enumerate(graph[0]) if wire[1] == "made"]
+    return [wire for wire in range(len(graph[0])) if is_made(graph, wire)]
+
+
+def is_made(graph, wire):
+    return graph[0][wire][1] == "made"
 
 
 def steps_of(graph, wire, up):
@@ -51,4 +55,8 @@ def bits(some):
 
 
 def ones(number):
-    return [place for place in range(number.bit_length()) if ((number >> place) & 1) == 1]
+    return [place for place in range(number.bit_length()) if has_one(number, place)]
+
+
+def has_one(number, place):
+    return ((number >> place) & 1) == 1

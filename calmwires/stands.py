@@ -1,7 +1,7 @@
 """The stands of a graph: tuples (marks, code), and the ways to them."""
 
 from calmwires.errors import Broken, Crowded, TooMany
-from calmwires.graphs import bits, fills_of, is_rise, takes_of, wire_of
+from calmwires.graphs import bits, fills_of, has_one, is_rise, takes_of, wire_of
 
 
 def can(graph, stand, step):
@@ -11,8 +11,7 @@ def can(graph, stand, step):
 
 def behind(graph, stand, step):
     wire = wire_of(graph, step)
-    is_up = ((stand[1] >> wire) & 1) == 1
-    if is_up == is_rise(graph, step):
+    if has_one(stand[1], wire) == is_rise(graph, step):
         raise Broken([step])
     left = stand[0] & ~bits(takes_of(graph, step))
     fills = bits(fills_of(graph, step))

@@ -1,4 +1,12 @@
-"""Graphs for the tests, and graphs drawn by a fixed rule."""
+"""Graphs for the tests, graphs drawn by a fixed rule, and what the document says of them.
+
+The last is told over sets of spots and lists of levels, apart from the program.
+"""
+
+from itertools import combinations
+
+from calmwires.errors import Broken, CalledOff, CalmError, Clash, Crowded, TooMany
+from calmwires.texts import read
 
 # One wire follows another: a up, b up, a down, b down, round and round.
 FOLLOW = (
@@ -40,6 +48,35 @@ JOIN_STANDS = [
     (144, 5, 4, 4),
     (192, 4, 5, 4),
 ]
+
+# The world chooses between a and b; the made wire answers either, by steps of its own.
+CHOICE = read(
+    "given a\ngiven b\nmade c\n"
+    "up a : 0 -> 1\nup b : 0 -> 2\nup c : 1 -> 3\nup c : 2 -> 4\n"
+    "down a : 3 -> 5\ndown b : 4 -> 6\ndown c : 5 -> 0\ndown c : 6 -> 0\nstart 0 :"
+)
+
+# Two made wires look at a's tokens and give them back, as a does with theirs.
+GIVE_BACK = read(
+    "given a\nmade c\nmade d\n"
+    "up a : 0 4 6 -> 1 4 6\nup c : 1 4 -> 1 5\nup d : 1 6 -> 1 7\n"
+    "down a : 1 5 7 -> 0 5 7\ndown c : 0 5 -> 0 4\ndown d : 0 7 -> 0 6\nstart 0 4 6 :"
+)
+
+# The made wire moves at each second fall of the given one: it clashes when both are down and when it alone is up.
+COUNT = read(
+    "given a\nmade b\n"
+    "up a : 0 -> 1\ndown a : 1 -> 2\nup b : 2 -> 3\nup a : 3 -> 4\ndown a : 4 -> 5\ndown b : 5 -> 0\nstart 0 :"
+)
+
+# Wire c looks at a's tokens, but a doesn't wait for it: each move of c is called off by one of a.
+EARLY = read(
+    "given a\ngiven c\n"
+    "up a : 0 -> 1\ndown a : 1 -> 0\nup c : 1 4 -> 1 5\ndown c : 0 5 -> 0 4\nstart 0 4 :"
+)
+
+# A made wire without steps, beside one that goes up and down by itself.
+LONE = read("made n\ngiven a\nup a : 0 -> 1\ndown a : 1 -> 0\nstart 0 :")
 
 TEN_NAMES = ("a", "bb", "ccc", "dddd", "eeeee", "ffffff", "ggggggg", "hhhhhhhh", "z", "y")
 
@@ -104,3 +141,208 @@ class Draw:
         wires = tuple((name, ("given", "made")[self.below(2)]) for name in TEN_NAMES[:many])
         steps = tuple((wire, up, tuple(sorted(takes)), tuple(sorted(fills))) for wire, up, takes, fills in sides)
         return (wires, steps, marks, 0)
+
+    def shuffled(self, some):
+        left, drawn = list(some), []
+        while left:
+            drawn.append(left.pop(self.below(len(left))))
+        return drawn
+
+    def quilt(self, patches, most=400):
+        """A graph of patches that go beside one another, as many as the bounds and most let, all shuffled."""
+        wires, steps, marks, code, spots, many = [], [], 0, 0, 0, 1
+        for patch in self.shuffled(patches):
+            many_here = len(stands_by_ways(patch, 400))
+            if len(wires) + len(patch[0]) > 10 or len(steps) + len(patch[1]) > 24 or many * many_here > most:
+                continue
+            for wire, up, takes, fills in patch[1]:
+                steps.append((wire + len(wires), up, [p + spots for p in takes], [p + spots for p in fills]))
+            here = self.walked(patch)
+            marks, code = marks | here[0] << spots, code | here[1] << len(wires)
+            wires += [kind for name, kind in patch[0]]
+            spots, many = spots + 1 + max(max(takes + fills) for wire, up, takes, fills in patch[1]), many * many_here
+        return self.renumbered(wires, steps, marks, code)
+
+    def recast(self, graph):
+        """The same graph, each wire given or made anew."""
+        return (tuple((name, ("given", "made")[self.below(2)]) for name, kind in graph[0]),) + graph[1:]
+
+    def walked(self, graph):
+        """A stand that some steps lead to from the beginning."""
+        here = tokens_of(graph, graph[2:])
+        for step in range(self.below(12)):
+            ahead = [step_by_tokens(graph, here[0], here[1], k) for k in range(len(graph[1]))]
+            ahead = [stand for stand in ahead if stand is not None]
+            here = ahead[self.below(len(ahead))] if ahead else here
+        return numbers_of(here)
+
+    def renumbered(self, kinds, steps, marks, code):
+        wires = self.shuffled(range(len(kinds)))
+        spots = self.shuffled(range(64))
+        new_steps = tuple(
+            (wires.index(wire), up, tuple(sorted(spots[p] for p in takes)), tuple(sorted(spots[p] for p in fills)))
+            for wire, up, takes, fills in self.shuffled(steps)
+        )
+        return (
+            tuple((name, kinds[wire]) for name, wire in zip(self.shuffled(TEN_NAMES), wires)),
+            new_steps,
+            sum(1 << spots[p] for p in range(64) if marks >> p & 1),
+            sum(1 << place for place, wire in enumerate(wires) if code >> wire & 1),
+        )
+
+
+def ring(kinds):
+    """Wires that rise one behind the other, then fall so; each of these steps waits for the one ahead."""
+    many = len(kinds)
+    wires = tuple((TEN_NAMES[wire], kind) for wire, kind in enumerate(kinds))
+    steps = tuple((k % many, k < many, (k,), ((k + 1) % (2 * many),)) for k in range(2 * many))
+    return (wires, steps, 1, 0)
+
+
+# All sound and without a clash.
+CALM_PATCHES = [FOLLOW, FOLLOW, FOLLOW, JOIN, CHOICE, GIVE_BACK, LONE, ring(("made",)), ring(("made", "made", "given"))]
+
+# With drawn kinds, some of these are sound, some clash and in some a step is called off.
+PATCHES = CALM_PATCHES + [EARLY, COUNT, COUNT]
+
+
+def mixed(many, most=40):
+    """Drawn graphs: some without any plan, some rings, some quilts with kinds drawn anew."""
+    return (
+        [Draw(seed).graph() for seed in range(many)]
+        + [Draw(seed).rings() for seed in range(many)]
+        + [Draw(seed).recast(Draw(seed).quilt(PATCHES, most)) for seed in range(many)]
+    )
+
+
+def asked(ask, *arguments):
+    """The answer, or the refusal's class with what it tells."""
+    try:
+        return ask(*arguments)
+    except TooMany:
+        return (TooMany, None)
+    except CalledOff as error:
+        return (CalledOff, (error.way, error.lost, error.by))
+    except Clash as error:
+        return (Clash, (error.one, error.other, error.wire))
+    except CalmError as error:
+        return (type(error), error.way)
+
+
+def step_by_tokens(graph, tokens, levels, step):
+    """What [7] says of one step: None, an error's class, or what is behind."""
+    wire, up, takes, fills = graph[1][step]
+    if not set(takes) <= tokens:
+        return None
+    if levels[wire] == up:
+        return Broken
+    left = tokens - set(takes)
+    if left & set(fills):
+        return Crowded
+    return (left | set(fills), levels[:wire] + [up] + levels[wire + 1:])
+
+
+def numbers_of(stand):
+    """A stand of tokens and levels as the program has it."""
+    return (sum(1 << p for p in stand[0]), sum(1 << wire for wire, up in enumerate(stand[1]) if up))
+
+
+def tokens_of(graph, stand):
+    """A stand of the program as tokens and levels."""
+    figures = reversed(bin(stand[0])[2:])
+    return ({p for p, one in enumerate(figures) if one == "1"}, [bool(stand[1] >> w & 1) for w in range(len(graph[0]))])
+
+
+def stands_by_ways(graph, most):
+    """What [8] says: the list, or the error's class and its way; each stand is come to by its way from the beginning."""
+    listed, come, seen = [(graph[2], graph[3], None, None)], [(tokens_of(graph, graph[2:]), [])], {graph[2:]}
+    for n, ((tokens, levels), steps) in enumerate(come):
+        for k in range(len(graph[1])):
+            after = step_by_tokens(graph, tokens, levels, k)
+            if after in (Broken, Crowded):
+                return (after, steps + [k])
+            if after is None or numbers_of(after) in seen:
+                continue
+            if len(listed) == most:
+                return (TooMany, None)
+            seen.add(numbers_of(after))
+            listed.append(numbers_of(after) + (n, k))
+            come.append((after, steps + [k]))
+    return listed
+
+
+def way_by_words(found, n):
+    return [] if n == 0 else way_by_words(found, found[n][2]) + [found[n][3]]
+
+
+def called_by_words(graph, stand, wire, up):
+    """What [10] says: whether a wire is called up, or down."""
+    return any(step[:2] == (wire, up) and all(stand[0] >> p & 1 for p in step[2]) for step in graph[1])
+
+
+def wants_by_words(graph, stand, wire):
+    if called_by_words(graph, stand, wire, True):
+        return 1
+    return -1 if called_by_words(graph, stand, wire, False) else 0
+
+
+def off_by_words(graph, stand, a, b):
+    """What [11] says of two steps that can be done, b not refused."""
+    behind = step_by_tokens(graph, *tokens_of(graph, stand), b)
+    return not set(graph[1][a][2]) <= behind[0]
+
+
+def sound_by_words(graph, most):
+    """What [11] says: the list, or the error's class and what it tells."""
+    found = stands_by_ways(graph, most)
+    if isinstance(found, tuple):
+        return found
+    for n, stand in enumerate(found):
+        tokens = tokens_of(graph, stand[:2])[0]
+        here = [k for k, step in enumerate(graph[1]) if set(step[2]) <= tokens]
+        pairs = [(b, a) for b in here for a in here if a != b and off_by_words(graph, stand[:2], a, b)]
+        pairs = [pair for pair in pairs if "made" in [graph[0][graph[1][k][0]][1] for k in pair]]
+        if pairs:
+            b, a = min(pairs)
+            return (CalledOff, (way_by_words(found, n), a, b))
+    return found
+
+
+def clashes_by_words(graph, found):
+    """What [13] says of the stands of a sound graph."""
+    wires = [wire for wire, (name, kind) in enumerate(graph[0]) if kind == "made"]
+    wanted = {stand[:2]: [wants_by_words(graph, stand[:2], wire) for wire in wires] for stand in found}
+    return sorted(
+        (n, m, wire)
+        for (n, one), (m, other) in combinations(enumerate(found), 2)
+        if one[1] == other[1]
+        for place, wire in enumerate(wires)
+        if wanted[one[:2]][place] != wanted[other[:2]][place]
+    )
+
+
+def up_by_words(gate, code):
+    """What [15] says of a gate, wire by wire."""
+    return any(
+        all(code >> wire & 1 == level >> wire & 1 for wire in range(10) if care >> wire & 1) for care, level in gate
+    )
+
+
+def good_by_words(graph, found, wire, gate, up):
+    """What [17] says of a rise gate, or (not up) of a fall gate: which of a, b and c are broken."""
+    broken, seen = set(), {}
+    for stand in found:
+        there = tokens_of(graph, stand[:2])[1][wire] == up
+        called, back = (called_by_words(graph, stand[:2], wire, way) for way in (up, not up))
+        high = up_by_words(gate, stand[1])
+        if called and not high:
+            broken.add("a")
+        if high and (not there and not called or back):
+            broken.add("b")
+        seen[stand[:2]] = (there and not back, high)
+    for stand in [stand for stand in seen if seen[stand] == (True, False)]:
+        tokens, levels = tokens_of(graph, stand)
+        for after in [step_by_tokens(graph, tokens, levels, k) for k in range(len(graph[1]))]:
+            if after is not None and seen[numbers_of(after)] == (True, True):
+                broken.add("c")
+    return broken

@@ -159,6 +159,70 @@ class Forms(unittest.TestCase):
                     self.assertIn(right.value, (None, True, False), (name, node.lineno))
 
 
+def with_parents():
+    for path, tree in trees():
+        above = {child: node for node in ast.walk(tree) for child in ast.iter_child_nodes(node)}
+        for node in ast.walk(tree):
+            yield path, node, above
+
+
+def calls(node, *names):
+    return isinstance(node, ast.Call) and isinstance(node.func, ast.Name) and node.func.id in names
+
+
+class Calls(unittest.TestCase):
+    def test_keywords(self):
+        allowed = {
+            "sorted": {"key", "reverse"}, "min": {"key", "default"}, "max": {"key", "default"}, "sum": {"start"},
+            "enumerate": {"start"}, "zip": {"strict"},
+        }
+        for name, node in nodes(ast.Call):
+            if node.keywords:
+                self.assertIsInstance(node.func, ast.Name, (name, node.lineno))
+                words = {keyword.arg for keyword in node.keywords}
+                self.assertLessEqual(words, allowed.get(node.func.id, set()), (name, node.lineno))
+
+    def test_walked_at_once(self):
+        for path, node, above in with_parents():
+            method = isinstance(node, ast.Call) and isinstance(node.func, ast.Attribute) and node.func.attr
+            if calls(node, "zip", "enumerate", "reversed", "range") or method in ("items", "keys", "values"):
+                upper = above[node]
+                walked = isinstance(upper, (ast.For, ast.comprehension)) and upper.iter is node
+                taken = calls(upper, "list", "tuple", "dict", "sorted", "sum", "any", "all", "enumerate", "zip")
+                alone = calls(upper, "min", "max") and len(upper.args) == 1
+                self.assertTrue(walked or taken or alone, (path, node.lineno))
+
+    def test_sets(self):
+        for path, node, above in with_parents():
+            if calls(node, "set", "frozenset") or isinstance(node, ast.Set):
+                upper = above[node]
+                while isinstance(upper, ast.BinOp):
+                    self.assertIsInstance(upper.op, (ast.Sub, ast.BitAnd, ast.BitOr, ast.BitXor), (path, node.lineno))
+                    upper = above[upper]
+                beside = isinstance(upper, ast.Compare) and isinstance(upper.ops[0], (ast.In, ast.NotIn, ast.Eq, ast.NotEq))
+                self.assertTrue(beside or calls(upper, "sorted", "len") and not upper.keywords, (path, node.lineno))
+
+    def test_errors_taken(self):
+        own = {node.name for path, node in nodes(ast.ClassDef)}
+        for name, node in nodes(ast.ExceptHandler):
+            self.assertIsInstance(node.type, ast.Name, (name, node.lineno))
+            self.assertIn(node.type.id, own | {"KeyError", "ZeroDivisionError", "StopIteration"}, (name, node.lineno))
+
+    def test_errors_raised(self):
+        for name, node in nodes(ast.Raise):
+            self.assertIsInstance(node.exc, ast.Call, (name, node.lineno))
+
+    def test_no_annotations(self):
+        for name, node in nodes(ast.FunctionDef, ast.arg):
+            note = node.returns if isinstance(node, ast.FunctionDef) else node.annotation
+            self.assertIsNone(note, (name, node.lineno))
+
+    def test_inits_give_back_nothing(self):
+        for name, node in nodes(ast.FunctionDef):
+            if node.name == "__init__":
+                self.assertFalse([part for part in ast.walk(node) if isinstance(part, ast.Return)], (name, node.lineno))
+
+
 class Names(unittest.TestCase):
     def test_names_bound(self):
         for path, tree in trees():

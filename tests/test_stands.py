@@ -1,10 +1,10 @@
 import unittest
 
-from calmwires.errors import Broken, CalmError, Crowded, TooMany
+from calmwires.errors import Broken, Crowded, TooMany
 from calmwires.graphs import bits, ones
 from calmwires.stands import behind, can, stands, way
 from calmwires.texts import read
-from tests.samples import FOLLOW, JOIN, JOIN_STANDS, Draw, full_graph
+from tests.samples import FOLLOW, JOIN, JOIN_STANDS, Draw, asked, full_graph, stands_by_ways, step_by_tokens
 
 FREE = 2**64 - 1
 
@@ -12,46 +12,6 @@ FREE = 2**64 - 1
 def one_step(wire, up, takes, fills, wires=3):
     names = (("a", "given"), ("b", "made"), ("c", "made"))
     return (names[:wires], ((wire, up, takes, fills),), 0, 0)
-
-
-def step_by_tokens(graph, tokens, levels, step):
-    """What [7] says of one step, over a set of spots and a list of levels: None, an error's class, or what is behind."""
-    wire, up, takes, fills = graph[1][step]
-    if not set(takes) <= tokens:
-        return None
-    if levels[wire] == up:
-        return Broken
-    left = tokens - set(takes)
-    if left & set(fills):
-        return Crowded
-    return (left | set(fills), levels[:wire] + [up] + levels[wire + 1:])
-
-
-def stands_by_ways(graph, most):
-    """What [8] says: the list, or the error's class and its way; each stand is come to by its way from the beginning."""
-    beginning = (set(ones(graph[2])), [bool(graph[3] >> wire & 1) for wire in range(len(graph[0]))])
-    told, come = [(graph[2], graph[3], None, None)], [(beginning, [])]
-    for n, ((tokens, levels), steps) in enumerate(come):
-        for k in range(len(graph[1])):
-            after = step_by_tokens(graph, tokens, levels, k)
-            if after in (Broken, Crowded):
-                return (after, steps + [k])
-            if after is None or after in [stand for stand, some in come]:
-                continue
-            if len(told) == most:
-                return (TooMany, None)
-            told.append((bits(sorted(after[0])), bits([w for w, up in enumerate(after[1]) if up]), n, k))
-            come.append((after, steps + [k]))
-    return told
-
-
-def told_of(graph, most):
-    try:
-        return stands(graph, most)
-    except TooMany:
-        return (TooMany, None)
-    except CalmError as error:
-        return (type(error), error.way)
 
 
 def drawn(many):
@@ -156,7 +116,7 @@ class Stands(unittest.TestCase):
     """[8]"""
 
     def refused(self, error, graph, most, steps):
-        self.assertEqual(told_of(graph, most), (error, steps))
+        self.assertEqual(asked(stands, graph, most), (error, steps))
 
     def test_lists(self):
         self.assertEqual(
@@ -249,7 +209,7 @@ class Stands(unittest.TestCase):
         kinds = {}
         for graph in drawn(300):
             for most in (1, 2, 3, 5, 8, 400):
-                told = told_of(graph, most)
+                told = asked(stands, graph, most)
                 self.assertEqual(told, stands_by_ways(graph, most), (graph, most))
                 kind = told[0] if isinstance(told, tuple) else min(len(told), 9)
                 kinds[kind] = kinds.get(kind, 0) + 1
@@ -290,7 +250,7 @@ class Ways(unittest.TestCase):
     def test_each_leads_there(self):
         longest = 0
         for graph in drawn(200):
-            told = told_of(graph, 400)
+            told = asked(stands, graph, 400)
             if isinstance(told, list):
                 for n, stand in enumerate(told):
                     steps = way(told, n)
