@@ -3,9 +3,11 @@
 The last is told over sets of spots and lists of levels, apart from the program.
 """
 
-from itertools import combinations
+from itertools import combinations, permutations
 
-from calmwires.errors import Broken, CalledOff, CalmError, Clash, Crowded, TooMany
+from calmwires.errors import Broken, CalledOff, CalmError, Clash, Crowded, NoMove, NoPlace, TooMany
+from calmwires.gates import found as net_found
+from calmwires.plays import apart
 from calmwires.texts import read
 
 # One wire follows another: a up, b up, a down, b down, round and round.
@@ -75,6 +77,9 @@ EARLY = read(
     "up a : 0 -> 1\ndown a : 1 -> 0\nup c : 1 4 -> 1 5\ndown c : 0 5 -> 0 4\nstart 0 4 :"
 )
 
+# Both wires are made; with a up alone, b wants to rise once and not the other time. A wire put in helps.
+NEST = read("made a\nmade b\nup b : 0 -> 1\ndown b : 1 -> 2\ndown a : 2 -> 3\nup a : 3 -> 0\nstart 0 : a")
+
 # A made wire without steps, beside one that goes up and down by itself.
 LONE = read("made n\ngiven a\nup a : 0 -> 1\ndown a : 1 -> 0\nstart 0 :")
 
@@ -141,6 +146,59 @@ class Draw:
         wires = tuple((name, ("given", "made")[self.below(2)]) for name in TEN_NAMES[:many])
         steps = tuple((wire, up, tuple(sorted(takes)), tuple(sorted(fills))) for wire, up, takes, fills in sides)
         return (wires, steps, marks, 0)
+
+    def cycle(self, most_steps=8):
+        """Four wires, some of them rising and falling one behind the other, round and round; the others have no steps."""
+        wires = []
+        while len(wires) < 2 or (2 * len(wires) < most_steps and self.below(3)):
+            wires.append(self.below(4))
+        code, steps = self.below(16), []
+        turns, levels = self.shuffled(wires + wires), code
+        for k, wire in enumerate(turns):
+            levels ^= 1 << wire
+            steps.append((wire, levels >> wire & 1 == 1, (k,), ((k + 1) % len(turns),)))
+        kinds = [("made", "made", "given")[self.below(3)] for wire in range(4)]
+        return self.renumbered(kinds, steps, 1, code)
+
+    def row(self, graph, code, most_care=10):
+        """A row that fits a code."""
+        care = sum(1 << wire for wire in self.some(len(graph[0]), 0, min(most_care, len(graph[0]))))
+        return (care, code & care)
+
+    def net(self, graph, most_gates=4, most_rows=3):
+        """Gates without any plan: up to `most_gates` for a rise, and for a fall, and up to 40 in all."""
+        made = [wire for wire, (name, kind) in enumerate(graph[0]) if kind == "made"]
+        parts = []
+        for wire in made:
+            sides = []
+            for side in range(2):
+                many = self.below(min(most_gates, 20 // len(made)) + 1)
+                sides.append(tuple(
+                    tuple(self.row(graph, self.below(1 << len(graph[0]))) for row in range(self.below(most_rows + 1)))
+                    for gate in range(many)
+                ))
+            parts.append((wire, *sides))
+        return tuple(parts)
+
+    def bent(self, graph, net):
+        """A net with one gate of it put in twice, taken out, or with other rows."""
+        parts = [[wire, list(rises), list(falls)] for wire, rises, falls in net]
+        part = parts[self.below(len(parts))]
+        gates = part[1 + self.below(2)]
+        chosen = gates[self.below(len(gates))] if gates else ()
+        row = self.row(graph, self.below(1 << len(graph[0])))
+        how = self.below(5)
+        if how == 0 or not gates:
+            gates.append(chosen + (row,))
+        elif how == 1:
+            gates.remove(chosen)
+        elif how == 2:
+            gates[gates.index(chosen)] = chosen + (row,)
+        elif how == 3:
+            gates[gates.index(chosen)] = chosen[1:]
+        else:
+            gates[gates.index(chosen)] = tuple(self.row(graph, level, 2) for care, level in chosen)
+        return tuple((wire, tuple(rises), tuple(falls)) for wire, rises, falls in parts)
 
     def shuffled(self, some):
         left, drawn = list(some), []
@@ -219,8 +277,8 @@ def asked(ask, *arguments):
     """The answer, or the refusal's class with what it tells."""
     try:
         return ask(*arguments)
-    except TooMany:
-        return (TooMany, None)
+    except (TooMany, NoMove, NoPlace) as error:
+        return (type(error), None)
     except CalledOff as error:
         return (CalledOff, (error.way, error.lost, error.by))
     except Clash as error:
@@ -346,3 +404,137 @@ def good_by_words(graph, found, wire, gate, up):
             if after is not None and seen[numbers_of(after)] == (True, True):
                 broken.add("c")
     return broken
+
+
+class WordPlay:
+    """What [19] to [21] say, over a set of spots, a list of levels and a list of the gates' levels."""
+
+    def __init__(self, graph, net):
+        self.graph, self.net = graph, net
+        self.tokens, self.wires = tokens_of(graph, graph[2:])
+        self.gates = [gate for wire, rises, falls in net for gate in rises + falls]
+        self.levels = [self.due(gate) for gate in self.gates]
+
+    def stand(self):
+        return numbers_of((self.tokens, self.wires))
+
+    def pose(self):
+        return (self.stand(), tuple(self.levels))
+
+    def due(self, gate):
+        return up_by_words(gate, self.stand()[1])
+
+    def let(self, kind):
+        """The steps of given or of made wires that can be done."""
+        return [
+            k for k, (wire, up, takes, fills) in enumerate(self.graph[1])
+            if self.graph[0][wire][1] == kind and set(takes) <= self.tokens
+        ]
+
+    def moves(self):
+        steps = [("step", k) for k in self.let("given")]
+        gates = [("gate", g) for g, gate in enumerate(self.gates) if self.due(gate) != self.levels[g]]
+        wires, levels = [], list(self.levels)
+        for wire, rises, falls in self.net:
+            rising, levels = any(levels[:len(rises)]), levels[len(rises):]
+            falling, levels = any(levels[:len(falls)]), levels[len(falls):]
+            if rising != falling and self.wires[wire] == falling:
+                wires.append(("wire", wire))
+        return steps + gates + wires
+
+    def go(self, move):
+        ahead = self.moves()
+        if move not in ahead:
+            raise NoMove()
+        kind, number = move
+        if kind == "gate":
+            self.levels[number] = not self.levels[number]
+        else:
+            done = [number] if kind == "step" else [
+                k for k in self.let("made") if self.graph[1][k][:2] == (number, not self.wires[number])
+            ]
+            if not done:
+                return ("astray", number)
+            self.tokens, self.wires = step_by_tokens(self.graph, self.tokens, self.wires, done[0])
+        gone = [called for called in ahead if called[0] != "step" and called != move and called not in self.moves()]
+        return ("vanished", gone) if gone else None
+
+    def twin(self):
+        other = WordPlay(self.graph, self.net)
+        other.tokens, other.wires, other.levels = set(self.tokens), list(self.wires), list(self.levels)
+        return other
+
+
+def plays_by_words(graph, net, most):
+    """All plays by all moves, gone on with behind what vanished, too; and the kinds of what is not calm.
+
+    Where there are more than most plays: None, and the kinds met so far.
+    """
+    first = WordPlay(graph, net)
+    come, seen, kinds = [first], {first.pose()}, set()
+    for play in come:
+        moves = play.moves()
+        if not moves and play.let("made"):
+            kinds.add("stuck")
+        for move in moves:
+            after = play.twin()
+            told = after.go(move)
+            if told:
+                kinds.add(told[0])
+            if after.pose() not in seen:
+                if len(come) == most:
+                    return (None, kinds)
+                seen.add(after.pose())
+                come.append(after)
+    return (len(come), kinds)
+
+
+def put_by_words(graph, name, first, second):
+    """What [25] says, where nothing is refused."""
+    wires, steps, marks, code = graph
+    taken = {p for step in steps for p in step[2] + step[3]} | {p for p in range(64) if marks >> p & 1}
+    one, other = sorted(set(range(64)) - taken)[:2]
+    new = [list(step) for step in steps] + [
+        [len(wires), True, steps[first][2], (one,)], [len(wires), False, steps[second][2], (other,)],
+    ]
+    new[first][2], new[second][2] = (one,), (other,)
+    return (wires + ((name, "made"),), tuple(tuple(step) for step in new), marks, code)
+
+
+def calm_by_words(graph, most):
+    """Whether a graph is sound within most stands and has no clash."""
+    found = sound_by_words(graph, most)
+    return isinstance(found, list) and clashes_by_words(graph, found) == []
+
+
+def parted_by_words(graph, name, most):
+    """What [26] says of a sound graph with room for the wire."""
+    made = [k for k, step in enumerate(graph[1]) if graph[0][step[0]][1] == "made"]
+    for first, second in permutations(made, 2):
+        new = put_by_words(graph, name, first, second)
+        if calm_by_words(new, most):
+            return (first, second, new)
+    return None
+
+
+def sound_graphs(many, most=40):
+    """Drawn graphs that are sound, some with clashes, of one to ten wires."""
+    by_hand = [CHOICE, GIVE_BACK, LONE, COUNT, NEST, ring(("made",)), ring(("made", "given") * 5)]
+    drawn = mixed(many, most) + [Draw(seed).cycle() for seed in range(many)]
+    return [graph for graph in by_hand + drawn if isinstance(sound_by_words(graph, 400), list)]
+
+
+def calm_graphs(many, most=400):
+    """Graphs for which a net is found: of one to ten wires, with a choice, tokens given back, wires without steps."""
+    rings = [ring(("made",) * wires) for wires in range(1, 11)]
+    quilts = [Draw(seed).quilt(CALM_PATCHES * 2, most) for seed in range(many)]
+    return [FOLLOW, JOIN, CHOICE, GIVE_BACK, LONE] + rings + quilts
+
+
+def nets_for(draw, graph):
+    """Nets for a graph: two without a plan; if one is found, that one, bent once and twice, and taken apart."""
+    nets = [draw.net(graph), draw.net(graph, 2, 2)]
+    net = asked(net_found, graph, 400)
+    if net and isinstance(net[0], tuple):
+        nets += [net, draw.bent(graph, net), draw.bent(graph, draw.bent(graph, net)), apart(net)]
+    return nets

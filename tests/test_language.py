@@ -55,6 +55,8 @@ def bound_names(tree):
             yield node.arg
         elif isinstance(node, (ast.FunctionDef, ast.ClassDef)):
             yield node.name
+        elif isinstance(node, ast.ExceptHandler) and node.name:
+            yield node.name
 
 
 class Files(unittest.TestCase):
@@ -223,7 +225,48 @@ class Calls(unittest.TestCase):
                 self.assertFalse([part for part in ast.walk(node) if isinstance(part, ast.Return)], (name, node.lineno))
 
 
+def own_methods():
+    return [part.name for path, node in nodes(ast.ClassDef) for part in node.body if isinstance(part, ast.FunctionDef)]
+
+
+def own_values():
+    return [node.attr for path, node in nodes(ast.Attribute) if isinstance(node.ctx, ast.Store)]
+
+
 class Names(unittest.TestCase):
+    def test_methods_and_values(self):
+        self.assertEqual(set(own_methods()) & set(own_values()), set())
+        python = {name for some in (str, int, list, tuple, dict, set, bytes) for name in dir(some)}
+        python |= {name for name in dir(ValueError)}
+        allowed = {"count", "index", "title", "find", "get", "join", "lower", "upper", "split", "strip", "copy", "add"}
+        self.assertEqual(set(own_values()) & (python - allowed), set())
+        self.assertEqual(set(own_methods()) & (python - METHODS - DUNDERS - {"add", "discard"}), set())
+
+    def test_no_method_twice(self):
+        for path, node in nodes(ast.ClassDef):
+            methods = [part.name for part in node.body if isinstance(part, ast.FunctionDef)]
+            self.assertEqual(len(methods), len(set(methods)), (path, node.name))
+
+    def test_classes_are_called_raised_or_taken(self):
+        own = {node.name for path, node in nodes(ast.ClassDef)}
+        for path, node, above in with_parents():
+            if isinstance(node, ast.Name) and node.id in own:
+                upper = above[node]
+                called = isinstance(upper, ast.Call) and upper.func is node
+                base = isinstance(upper, ast.ClassDef) and node in upper.bases
+                first = isinstance(upper, ast.Attribute) and upper.attr == "__init__"
+                self.assertTrue(called or base or first or isinstance(upper, ast.ExceptHandler), (path, node.lineno))
+
+    def test_what_is_walked_is_not_changed(self):
+        changes = {"append", "clear", "extend", "insert", "pop", "remove", "reverse", "setdefault", "update"}
+        for path, loop in nodes(ast.For):
+            walked = {ast.dump(part) for part in ast.walk(loop.iter) if isinstance(part, (ast.Name, ast.Attribute))}
+            for part in [part for row in loop.body for part in ast.walk(row)]:
+                if isinstance(part, ast.Call) and isinstance(part.func, ast.Attribute) and part.func.attr in changes:
+                    self.assertNotIn(ast.dump(part.func.value), walked, (path, part.lineno))
+                if isinstance(part, ast.Subscript) and isinstance(part.ctx, ast.Store):
+                    self.assertNotIn(ast.dump(part.value), walked, (path, part.lineno))
+
     def test_names_bound(self):
         for path, tree in trees():
             for name in bound_names(tree):
@@ -242,6 +285,8 @@ class Names(unittest.TestCase):
             for node in ast.walk(tree):
                 if isinstance(node, ast.Name) and isinstance(node.ctx, ast.Store) and node.col_offset > 0:
                     inner.append(node.id)
+                elif isinstance(node, ast.ExceptHandler) and node.name:
+                    inner.append(node.name)
             self.assertEqual(set(inner) & set(top), set(), path)
 
     def test_names_used(self):
@@ -253,10 +298,9 @@ class Names(unittest.TestCase):
                     self.assertTrue(node.id in known or node.id in OWN_NAMES, (path, node.id))
 
     def test_methods_used(self):
-        own = {part.name for path, node in nodes(ast.ClassDef) for part in node.body if isinstance(part, ast.FunctionDef)}
         for path, node in nodes(ast.Call):
             if isinstance(node.func, ast.Attribute):
-                self.assertIn(node.func.attr, METHODS | own, (path, node.lineno))
+                self.assertIn(node.func.attr, METHODS | set(own_methods()), (path, node.lineno))
         for path, node in nodes(ast.Attribute):
             self.assertNotIn(node.attr, UNUSED, (path, node.lineno))
 
